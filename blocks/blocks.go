@@ -58,6 +58,24 @@ func Read(stream string) (Info, int, bool) {
 	return info, at, true
 }
 
+// Write writes the head of a stream with no block but the first. What means nothing there is 0.
+func Write(info Info) string {
+	var w fields.Writer
+	w.Number(1, 1)
+	w.Number(kindInfo, 7)
+	w.Number(infoSize, 24)
+	w.Number(info.Block, 16)
+	w.Number(info.Block, 16)
+	w.Number(0, 24)
+	w.Number(0, 24)
+	w.Number(info.Rate, 20)
+	w.Number(info.Channels-1, 3)
+	w.Number(info.Bits-1, 5)
+	w.Number(info.Total, 36)
+	w.Number(0, 8*16)
+	return mark + w.String()
+}
+
 func readBlock(data string) (block, bool) {
 	r := fields.NewReader(data)
 	last := r.Number(1) == 1
@@ -93,10 +111,11 @@ func readInfo(body string) (Info, bool) {
 	i.Channels = r.Number(3) + 1
 	i.Bits = r.Number(5) + 1
 	i.Total = r.Number(36)
-	return i, least == most && i.mayBe()
+	return i, least == most && i.MayBe()
 }
 
-func (i Info) mayBe() bool {
+// MayBe tells whether all that it tells is within the limits.
+func (i Info) MayBe() bool {
 	return within(i.Block, api.MinBlock, api.MaxBlock) &&
 		within(i.Rate, 1, api.MaxRate) &&
 		within(i.Channels, 1, 2) &&

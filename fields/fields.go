@@ -1,4 +1,4 @@
-// Package fields: fields of so many bits, out of a string of bytes, the highest bit first.
+// Package fields: fields of so many bits, out of bytes and into them, the highest bit first.
 package fields
 
 // Reader reads one field behind the other. Once it is asked for more than is left, it is Over and every field is 0, so that it is enough to ask for that behind several fields.

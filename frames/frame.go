@@ -71,15 +71,15 @@ func readChannels(r *fields.Reader, h head, info blocks.Info) ([][]int, bool) {
 		h.mode.part(channels[0], channels[1])
 	}
 	for _, samples := range channels {
-		if !fit(samples, info.Bits) {
+		if !Fit(samples, info.Bits) {
 			return nil, false
 		}
 	}
 	return channels, true
 }
 
-// fit tells whether samples are all numbers of so many bits.
-func fit(samples []int, wide int) bool {
+// Fit tells whether samples are all numbers of so many bits.
+func Fit(samples []int, wide int) bool {
 	most := 1<<(wide-1) - 1
 	for _, v := range samples {
 		if v > most || v < -most-1 {

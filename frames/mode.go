@@ -25,6 +25,14 @@ func (m mode) channels() int {
 	return 0
 }
 
+// apart is the mode in which the subframes are so many channels, each by itself.
+func apart(channels int) mode {
+	if channels == 1 {
+		return modeOne
+	}
+	return modeTwo
+}
+
 // wide tells how many bits the samples of a subframe (0 or 1) have.
 func (m mode) wide(subframe, bits int) int {
 	side := -1

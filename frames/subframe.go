@@ -119,7 +119,7 @@ func readSubframe(r *fields.Reader, wide, n int) ([]int, bool) {
 		return nil, false
 	}
 	samples := s.samples(n)
-	if !fit(samples, wide-less) {
+	if !Fit(samples, wide-less) {
 		return nil, false
 	}
 	for i := range samples {

@@ -2,6 +2,8 @@
 package piccolo
 
 import (
+	"strings"
+
 	"piccolo/api"
 	"piccolo/blocks"
 	"piccolo/frames"
@@ -30,7 +32,19 @@ func Decode(stream string) (api.Sound, api.Errno, int) {
 }
 
 // Encode writes sound as a stream (P6).
-func Encode(s api.Sound, block int) (string, api.Errno) { return "", api.OK }
+func Encode(s api.Sound, block int) (string, api.Errno) {
+	info, ok := infoOf(s, block)
+	if !ok {
+		return "", api.ErrArg
+	}
+	var b strings.Builder
+	b.WriteString(blocks.Write(info))
+	for at := 0; at < info.Total; at += block {
+		some := between(s.Channels, at, min(at+block, info.Total))
+		b.WriteString(frames.Write(some, info.Bits, at/block))
+	}
+	return b.String(), api.OK
+}
 
 // Open makes a reader of a stream (P7).
 func Open(stream string) (*Reader, api.Errno, int) { return nil, api.OK, 0 }
@@ -68,4 +82,30 @@ func readFrames(data string, info blocks.Info) ([][]int, int, bool) {
 		number++
 	}
 	return channels, 0, true
+}
+
+// infoOf is what a stream of a sound tells of its frames; there is none, if the sound is not right or the block may not be.
+func infoOf(s api.Sound, block int) (blocks.Info, bool) {
+	info := blocks.Info{Block: block, Rate: s.Rate, Channels: len(s.Channels), Bits: s.Bits}
+	if len(s.Channels) > 0 {
+		info.Total = len(s.Channels[0])
+	}
+	if !info.MayBe() {
+		return blocks.Info{}, false
+	}
+	for _, samples := range s.Channels {
+		if len(samples) != info.Total || !frames.Fit(samples, s.Bits) {
+			return blocks.Info{}, false
+		}
+	}
+	return info, true
+}
+
+// between is the samples of each channel from one place up to another, in the memory in which they lie.
+func between(channels [][]int, from, to int) [][]int {
+	some := make([][]int, len(channels))
+	for i, samples := range channels {
+		some[i] = samples[from:to]
+	}
+	return some
 }
