@@ -3,6 +3,7 @@ package piccolo_test
 // What tests make streams of: texts of 0 and 1, blanks as one likes.
 
 import (
+	"math"
 	"slices"
 	"strconv"
 	"strings"
@@ -134,16 +135,17 @@ func right(s api.Sound) bool {
 	return ok
 }
 
-// wantSound is where Decode must answer these samples.
+// wantSound is where Decode must answer these samples, and a reader too.
 func wantSound(t *testing.T, what, stream string, channels ...[]int) {
 	t.Helper()
 	s, e, at := piccolo.Decode(stream)
 	if e != api.OK || at != 0 || !sameChannels(s.Channels, channels) || !right(s) {
 		t.Errorf("P4: %s: Decode = %v, %d, %d, want %v", what, s, e, at, channels)
 	}
+	wantRead(t, what, opened(t, what, stream, len(channels[0])), channels, math.MaxInt)
 }
 
-// wantError is where Decode must answer an error, a place, and nothing else.
+// wantError is where Decode and Open must answer an error, a place, and nothing else.
 func wantError(t *testing.T, what, stream string, want api.Errno, place int) {
 	t.Helper()
 	s, e, at := piccolo.Decode(stream)
@@ -153,4 +155,5 @@ func wantError(t *testing.T, what, stream string, want api.Errno, place int) {
 	if s.Rate != 0 || s.Bits != 0 || s.Channels != nil {
 		t.Errorf("P1: %s: beside an error stands %v", what, s)
 	}
+	wantNoReader(t, what, stream, want, place)
 }

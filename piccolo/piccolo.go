@@ -9,24 +9,16 @@ import (
 	"piccolo/frames"
 )
 
-// Reader reads a stream.
-type Reader struct{}
-
 // Decode reads a whole stream (P4, P5).
 func Decode(stream string) (api.Sound, api.Errno, int) {
-	if len(stream) > api.MaxStream {
-		return api.Sound{}, api.ErrLong, 0
+	info, data, err := readHead(stream)
+	if err != api.OK {
+		return api.Sound{}, err, 0
 	}
-	info, at, ok := blocks.Read(stream)
-	if !ok {
-		return api.Sound{}, api.ErrMeta, 0
-	}
-	channels, number, ok := readFrames(stream[at:], info)
-	if !ok {
-		return api.Sound{}, api.ErrFrame, number
-	}
-	if len(channels[0]) != info.Total {
-		return api.Sound{}, api.ErrTotal, 0
+	channels := make([][]int, info.Channels)
+	err, place := eachFrame(data, info, func(part string, some [][]int) { join(channels, some) })
+	if err != api.OK {
+		return api.Sound{}, err, place
 	}
 	return api.Sound{Rate: info.Rate, Bits: info.Bits, Channels: channels}, api.OK, 0
 }
@@ -46,42 +38,39 @@ func Encode(s api.Sound, block int) (string, api.Errno) {
 	return b.String(), api.OK
 }
 
-// Open makes a reader of a stream (P7).
-func Open(stream string) (*Reader, api.Errno, int) { return nil, api.OK, 0 }
+// readHead reads what stands ahead of the frames: what it tells, and the bytes behind it.
+func readHead(stream string) (blocks.Info, string, api.Errno) {
+	if len(stream) > api.MaxStream {
+		return blocks.Info{}, "", api.ErrLong
+	}
+	info, at, ok := blocks.Read(stream)
+	if !ok {
+		return blocks.Info{}, "", api.ErrMeta
+	}
+	return info, stream[at:], api.OK
+}
 
-// Total tells how many samples each channel has (P7).
-func (r *Reader) Total() int { return 0 }
-
-// Tell tells where the reader is (P8).
-func (r *Reader) Tell() int { return 0 }
-
-// Seek goes to a place (P8).
-func (r *Reader) Seek(at int) api.Errno { return api.OK }
-
-// Read reads samples from there on (P8).
-func (r *Reader) Read(n int) ([][]int, api.Errno) { return nil, api.OK }
-
-// readFrames reads frames up to the end of data: all samples; or the number of the first one that is none.
-func readFrames(data string, info blocks.Info) ([][]int, int, bool) {
-	channels := make([][]int, info.Channels)
+// eachFrame reads the frames up to the end of data, and hands on the bytes and the samples of each; it answers what is wrong with them, and the place of that.
+func eachFrame(data string, info blocks.Info, take func(part string, channels [][]int)) (api.Errno, int) {
 	number, total := 0, 0
 	for len(data) > 0 {
 		// Each frame ahead has info.Block samples, unless the last one of them was to be the last of all.
 		if total != number*info.Block {
-			return nil, number, false
+			return api.ErrFrame, number
 		}
 		f, ok := frames.Read(data, info, number)
 		if !ok || total+f.Count > api.MaxSamples {
-			return nil, number, false
+			return api.ErrFrame, number
 		}
-		for i := range channels {
-			channels[i] = append(channels[i], f.Channels[i]...)
-		}
+		take(data[:f.Size], f.Channels)
 		data = data[f.Size:]
 		total += f.Count
 		number++
 	}
-	return channels, 0, true
+	if total != info.Total {
+		return api.ErrTotal, 0
+	}
+	return api.OK, 0
 }
 
 // infoOf is what a stream of a sound tells of its frames; there is none, if the sound is not right or the block may not be.
@@ -108,4 +97,11 @@ func between(channels [][]int, from, to int) [][]int {
 		some[i] = samples[from:to]
 	}
 	return some
+}
+
+// join puts the samples of each channel behind those that are there.
+func join(channels, some [][]int) {
+	for i, samples := range some {
+		channels[i] = append(channels[i], samples...)
+	}
 }

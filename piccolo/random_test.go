@@ -232,6 +232,11 @@ func ends(t *testing.T, text string, frames int) api.Errno {
 	case e < api.OK || e == api.ErrArg || e > api.ErrTotal:
 		t.Errorf("P4: the error is %d", e)
 	}
+	if e == api.OK {
+		wantRead(t, "a stream that is right", opened(t, "a stream that is right", text, len(s.Channels[0])), s.Channels, api.MaxSamples)
+	} else {
+		wantNoReader(t, "a stream that is none", text, e, at)
+	}
 	return e
 }
 
